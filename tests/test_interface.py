@@ -1,0 +1,55 @@
+"""The interface: each name is defined in its file, with these parameters, and named as in the document."""
+
+import ast
+import importlib
+import inspect
+import pathlib
+import re
+import unittest
+
+FOLDER = pathlib.Path(__file__).resolve().parent.parent / "comesthrough"
+
+FUNCTIONS = {
+    "forms": """is_integer(thing) is_name(thing) is_word(thing) is_kind(thing) is_house(thing) is_lock(house, thing)
+        is_program(house, thing) is_place(house, thing)""",
+    "houses": """kind_named(house, name) sort_named(house, name) last_one(house, kind) places_of(house)
+        word_at(house, place) raised_kinds(house, kind) is_meek(house) keeps_all(house) with_word(house, place, word)
+        with_keeps(house, kind, keeps) with_rise(house, kind, rise) with_kind(house, name, like)
+        with_sort(house, name, like) without_kind(house, kind) without_sort(house, sort) reordered(house, order)
+        renamed_house(house, kinds, sorts)""",
+    "texts": "show_house(house) show_program(house, program)",
+    "reader": "read_house(text) read_program(house, text)",
+}
+METHODS = {}
+
+
+def listed(text):
+    """The names of a list of signatures, with their parameters."""
+    return [(name, re.findall(r"\w+", told)) for name, told in re.findall(r"(\w+)\(([^)]*)\)", text)]
+
+
+class TestInterface(unittest.TestCase):
+    def test_functions(self):
+        for name, text in FUNCTIONS.items():
+            module = importlib.import_module(f"comesthrough.{name}")
+            tree = ast.parse((FOLDER / f"{name}.py").read_text())
+            defined = [part.name for part in tree.body if isinstance(part, ast.FunctionDef)]
+            for function, parameters in listed(text):
+                self.assertIn(function, defined)
+                self.assertEqual(list(inspect.signature(getattr(module, function)).parameters), parameters, function)
+
+    def test_methods(self):
+        for (name, title), text in METHODS.items():
+            owner = getattr(importlib.import_module(f"comesthrough.{name}"), title)
+            tree = ast.parse((FOLDER / f"{name}.py").read_text())
+            bodies = [part.body for part in tree.body if isinstance(part, ast.ClassDef) and part.name == title]
+            self.assertEqual(len(bodies), 1)
+            defined = [part.name for part in bodies[0] if isinstance(part, ast.FunctionDef)]
+            for method, parameters in listed(text):
+                self.assertIn(method, defined)
+                found = list(inspect.signature(getattr(owner, method)).parameters)
+                self.assertEqual(found, ["self", *parameters], method)
+
+
+if __name__ == "__main__":
+    unittest.main()
