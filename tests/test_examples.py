@@ -19,6 +19,58 @@ READER = '''
 'program b\\ntake s 3\\nwork'
 '''
 
+RUNS = '''
+>>> from comesthrough.hall import Hall
+>>> from comesthrough.runs import held_off, is_fair, is_round, is_stuck, words_of
+>>> house = ((("k", True, 0),), ("s",), (((("wait", "yield"),),),))
+>>> hall = Hall(house)
+>>> one, other = (0, ((0, 1), (0, 2))), (0, ((0, 2), "work", (0, 1)))
+>>> [hall.enter(one), hall.enter(other), hall.step(0), hall.step(1), hall.step(0), hall.step(1)]
+[0, 1, 'begin', 'begin', 'take', 'take']
+>>> [hall.step(0), hall.waits_for(0), hall.steppers(), hall.step(1), hall.takers(), hall.step(1), hall.ages()]
+['wait', 1, [1], 'work', [], 'yield', [0, 1]]
+>>> [hall.state(), hall.step(0), hall.is_ended(0), hall.ages()]
+[(((0, 1, None), (0, -1, None)), (0, 1)), 'take', True, [1]]
+>>> never = ((("k", True, 0),), ("s",), (((("yield", "yield"),),),))
+>>> held = (((0, ((0, 1), "work", (0, 2))), other), (0, 1, 0, 1), (1, 1, 1, 1, 0, 0, 0, 0))
+>>> [words_of(never, (held[0], held[1] + held[2][:4])), is_round(never, held), is_fair(never, held), held_off(never, held)]
+[['begin', 'begin', 'take', 'take', 'work', 'yield', 'begin', 'take'], True, True, [0, 1]]
+>>> waits = ((("k", True, 0),), ("s",), (((("wait", "wait"),),),))
+>>> is_stuck(waits, (held[0], (0, 1, 0, 1, 0, 1, 0, 1)))
+True
+'''
+
+GRAPH = '''
+>>> from comesthrough.knots import is_bad, knots_of, words_in
+>>> from comesthrough.nodes import all_nodes, edges_of, left_out, places_of_edge
+>>> from comesthrough.walks import bad_way, is_turning, turning_walk
+>>> kept = ((("a", True, 0),), ("s",), (((("wait", "yield"),),),))
+>>> [all_nodes(kept), knots_of(kept), [words_in(kept, knot) for knot in knots_of(kept)]]
+[[('anew', 0), ('stand', 0)], [(('anew', 0),), (('stand', 0),)], [('elder',), ('younger',)]]
+>>> edges_of(kept)
+[(('anew', 0), ('anew', 0), 'elder'), (('anew', 0), ('stand', 0), 'elder'), (('stand', 0), ('stand', 0), 'younger')]
+>>> [places_of_edge(kept, ("anew", 0), ("anew", 0), "elder"), [is_bad(kept, knot) for knot in knots_of(kept)]]
+[[(0, 0, 0, 1)], [False, False]]
+>>> both = ((("a", True, 0),), ("s",), (((("wait", "wait"),),),))
+>>> [is_turning(both, turning_walk(both, ("stand", 0))), turning_walk(both, ("anew", 0)), bad_way(both, ("anew", 0))]
+[True, None, None]
+'''
+
+# Those rows of the examples behind [32], and parts of rows, that need comesthrough.standing alone.
+STANDING = '''
+>>> from comesthrough.standing import can_stand, is_standing_run, ring_of, ring_words, standing_kinds, waits_behind
+>>> kept = ((("a", True, 0),), ("s",), (((("wait", "yield"),),),))
+>>> both = ((("a", True, 0),), ("s",), (((("wait", "wait"),),),))
+>>> [can_stand(kept, 0), can_stand(both, 0)]
+[False, True]
+>>> one, other = (0, ((0, 0), (0, 1))), (0, ((0, 1), (0, 0)))
+>>> run = ((one, other), (0, 0, 1, 1, 0, 1))
+>>> [is_standing_run(both, 0, run), waits_behind(both, run), ring_of(both, run, 1), ring_words(both, run, 1)]
+[True, {0: 1, 1: 0}, [0, 1], ['younger', 'elder']]
+>>> [standing_kinds(both)]
+[[0]]
+'''
+
 
 class TestExamples(unittest.TestCase):
     def run_examples(self, text, many):
@@ -29,6 +81,15 @@ class TestExamples(unittest.TestCase):
 
     def test_behind_20(self):
         self.run_examples(READER, 9)
+
+    def test_behind_24(self):
+        self.run_examples(RUNS, 13)
+
+    def test_behind_27(self):
+        self.run_examples(GRAPH, 9)
+
+    def test_behind_32(self):
+        self.run_examples(STANDING, 8)
 
 
 if __name__ == "__main__":

@@ -19,8 +19,23 @@ FUNCTIONS = {
         renamed_house(house, kinds, sorts)""",
     "texts": "show_house(house) show_program(house, program)",
     "reader": "read_house(text) read_program(house, text)",
+    "runs": """is_run(house, thing) is_round(house, thing) is_stuck(house, run) is_fair(house, lap)
+        hall_of(house, programs) led(house, run) words_of(house, run) unfair_to(house, lap) held_off(house, lap)
+        renumbered(run, order) joined_runs(one, other)""",
+    "nodes": """all_nodes(house) edges_of(house) left_out(house) places_of_edge(house, node, other, word)
+        next_nodes(house, node) nodes_ahead(house, node) is_node(house, thing) is_moving(house, node)""",
+    "knots": """knots_of(house) knot_edges(house, knot) knot_of(house, node) words_in(house, knot) is_bad(house, knot)
+        is_young(house, knot) is_knot(house, thing)""",
+    "walks": """is_walk(house, thing) is_turning(house, walk) way_to(house, node, nodes) bad_way(house, node)
+        turning_walk(house, node)""",
+    "standing": """waits_behind(house, run) ring_of(house, run, person) ring_words(house, run, person)
+        is_standing_run(house, kind, thing) can_stand(house, kind) standing_kinds(house) standing_run(house, kind)""",
 }
-METHODS = {}
+METHODS = {
+    ("hall", "Hall"): """enter(program) step(person) kind_of(person) place_of(person) persons_many() waits_for(person)
+        holder_of(lock) locks_of(person) steppers() takers() ages() deeds_done() can_step(person) is_ended(person)
+        can_take(person) state() undo() copied() __eq__(other) __init__(house)""",
+}
 
 
 def listed(text):

@@ -1,0 +1,89 @@
+"""The nodes and the edges of a house."""
+
+from comesthrough.forms import is_index, is_tuple
+from comesthrough.houses import is_last, places_of, word_at
+
+# What the other one is, by the side of a place: seen by the asker, and seen by the holder.
+HOLDERS = ("younger", "elder")
+ASKERS = ("elder", "younger")
+
+
+def all_nodes(house):
+    kinds = range(len(house[0]))
+    return [("anew", kind) for kind in kinds if is_last(house, kind)] + [("stand", kind) for kind in kinds]
+
+
+def is_node(house, thing):
+    if not (is_tuple(2, thing) and isinstance(thing[0], str) and is_index(len(house[0]), thing[1])):
+        return False
+    return thing[0] == "stand" or (thing[0] == "anew" and is_last(house, thing[1]))
+
+
+def is_moving(house, node):
+    return node[0] == "anew" and not house[0][node[1]][1]
+
+
+def edges_of(house):
+    return [edge for edge in _all_edges(house) if not _is_left_out(house, edge)]
+
+
+def left_out(house):
+    return [edge for edge in _all_edges(house) if _is_left_out(house, edge)]
+
+
+def places_of_edge(house, node, other, word):
+    edge = (node, other, word)
+    return [place for place in places_of(house) if edge in _edges_at(house, place)]
+
+
+def next_nodes(house, node):
+    return heads_of(edges_of(house), node)
+
+
+def nodes_ahead(house, node):
+    return heads_ahead(edges_of(house), node)
+
+
+def heads_of(edges, node):
+    """The ascending list of the nodes to which one of these edges leads from a node."""
+    return sorted(set([edge[1] for edge in edges if edge[0] == node]))
+
+
+def heads_ahead(edges, node):
+    """The ascending list of the nodes to which one or more of these edges lead from a node."""
+    ahead = set()
+    left = heads_of(edges, node)
+    while left:
+        here = left.pop()
+        if here not in ahead:
+            ahead.add(here)
+            left.extend(heads_of(edges, here))
+    return sorted(ahead)
+
+
+def _all_edges(house):
+    """The ascending list of all edges, those that are left out among them."""
+    return sorted(set([edge for place in places_of(house) for edge in _edges_at(house, place)]))
+
+
+def _is_left_out(house, edge):
+    node, other, word = edge
+    if is_moving(house, node):
+        return word == "younger" and not is_moving(house, other)
+    return word == "elder" and is_moving(house, other)
+
+
+def _edges_at(house, place):
+    """The edges that the word at a place makes, left out or not."""
+    _, asker, holder, side = place
+    word = word_at(house, place)
+    edges = []
+    if word == "wait":
+        edges.append((("stand", asker), ("stand", holder), HOLDERS[side]))
+    if word == "yield" and is_last(house, asker):
+        edges.append((("anew", asker), ("stand", holder), HOLDERS[side]))
+        if is_last(house, holder):
+            edges.append((("anew", asker), ("anew", holder), HOLDERS[side]))
+    if word == "oust" and is_last(house, asker) and is_last(house, holder):
+        edges.append((("anew", holder), ("anew", asker), ASKERS[side]))
+    return edges

@@ -1,0 +1,85 @@
+"""Walks along the edges of a house."""
+
+from comesthrough.forms import is_tuple
+from comesthrough.knots import is_bad, knots_of
+from comesthrough.nodes import edges_of, is_moving, is_node
+
+
+def is_walk(house, thing):
+    if not (isinstance(thing, tuple) and all([_has_edge_form(house, edge) for edge in thing])):
+        return False
+    edges = edges_of(house)
+    if not all([edge in edges for edge in thing]):
+        return False
+    return all([edge[1] == thing[at + 1][0] for at, edge in enumerate(thing[:-1])])
+
+
+def way_to(house, node, nodes):
+    def behind(_, edge):
+        return (edge[1],)
+
+    def is_end(state):
+        return state[0] in nodes
+
+    return _shortest(edges_of(house), (node,), behind, is_end)
+
+
+def bad_way(house, node):
+    bad = [one for knot in knots_of(house) if is_bad(house, knot) for one in knot]
+    return way_to(house, node, tuple(sorted(bad)))
+
+
+def is_turning(house, walk):
+    words = [edge[2] for edge in walk]
+    return _turns("elder" in words, "younger" in words, any([is_moving(house, edge[0]) for edge in walk]))
+
+
+def turning_walk(house, node):
+    def behind(state, edge):
+        _, elder, younger, moving = state
+        _, other, word = edge
+        return (other, elder or word == "elder", younger or word == "younger", moving or is_moving(house, other))
+
+    def is_end(state):
+        return state[0] == node and _turns(state[1], state[2], state[3])
+
+    return _shortest(edges_of(house), (node, False, False, is_moving(house, node)), behind, is_end)
+
+
+def end_of(node, walk):
+    """Where a walk ends that begins at a node."""
+    return walk[-1][1] if walk else node
+
+
+def _turns(elder, younger, moving):
+    """Tell whether a closed walk with these words, or with a moving node, is a turning one."""
+    return younger and (elder or moving)
+
+
+def _has_edge_form(house, thing):
+    if not (is_tuple(3, thing) and is_node(house, thing[0]) and is_node(house, thing[1])):
+        return False
+    return isinstance(thing[2], str)
+
+
+def _shortest(edges, start, behind, is_end):
+    """The fewest edges, as a tuple, that lead from a state to one that is an end, or None.
+
+    The node of a state is its first item; behind(state, edge) is the state behind an edge.
+    """
+    ways = {start: ()}
+    front = [start]
+    while front:
+        for state in front:
+            if is_end(state):
+                return ways[state]
+        fresh = []
+        for state in front:
+            for edge in edges:
+                if edge[0] == state[0]:
+                    other = behind(state, edge)
+                    if other not in ways:
+                        ways[other] = ways[state] + (edge,)
+                        fresh.append(other)
+        front = fresh
+    return None
