@@ -72,7 +72,7 @@ def _is_house_line(words, heads, later):
     if words[0] == "sort":
         return len(kinds) >= 1 and not asks and len(sorts) < SORTS_MOST and _is_sort_line(words, sorts)
     if words[0] == "ask":
-        return len(sorts) >= 1 and _is_ask_line(words, kinds, sorts, len(asks))
+        return _is_ask_line(words, kinds, sorts, len(asks))
     return False
 
 
@@ -91,7 +91,7 @@ def _is_new_name(word, above):
 
 
 def _is_ask_line(words, kinds, sorts, at):
-    """Tell whether a line is the ask line with this index."""
+    """Tell whether a line is the ask line with this index; as long as there is no sort, there is none."""
     if at >= len(kinds) * len(sorts) or len(words) != 3 + 2 * len(kinds):
         return False
     sort, asker = divmod(at, len(kinds))

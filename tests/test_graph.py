@@ -10,7 +10,7 @@ from comesthrough.knots import is_bad, is_knot, is_young, knot_edges, knot_of, k
 from comesthrough.nodes import (
     all_nodes, edges_of, is_moving, is_node, left_out, next_nodes, nodes_ahead, places_of_edge,
 )
-from comesthrough.walks import bad_way, is_turning, is_walk, turning_walk, way_to
+from comesthrough.walks import bad_way, end_of, is_turning, is_walk, turning_walk, way_to
 from tests.model import (
     model_edges, model_is_bad, model_is_left_out, model_kept_edges, model_knots, model_moves, model_reach,
 )
@@ -353,6 +353,11 @@ class TestWalks(unittest.TestCase):
                     self.assertEqual(way, ())
                 seen.add(way if way is None else min(len(way), 2))
         self.assertTrue({None, 0, 1} <= seen, seen)
+
+    def test_end_of(self):
+        for house, walk in self.walks(51, 20):
+            self.assertEqual(end_of(walk[0][0], walk), walk[-1][1])
+            self.assertEqual(end_of(("stand", 0), ()), ("stand", 0))
 
     def closed(self, walk):
         return len(walk) > 0 and walk[-1][1] == walk[0][0]

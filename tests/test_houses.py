@@ -119,6 +119,16 @@ class TestAsking(unittest.TestCase):
             self.assertIs(is_meek(with_word(house, place, "yield")), True)
             self.assertIs(is_meek(with_word(house, place, "oust")), False)
 
+    def test_meek_of_drawn_houses(self):
+        seen = set()
+        for house in HOUSES + drawn_houses(18, 60, words=("wait", "yield")):
+            last = all(kind[2] == index for index, kind in enumerate(house[0]))
+            self.assertIs(is_meek(house), last and "oust" not in words_of_house(house).values())
+            seen.add(is_meek(house))
+        self.assertEqual(seen, {True, False})
+        for kind in range(4):
+            self.assertIs(is_meek(with_rise(waiting([True] * 5, range(5)), kind, 4)), False)
+
     def test_keeps_all(self):
         self.assertIs(keeps_all(waiting([True] * 3, [0, 1, 2])), True)
         for kind in range(3):

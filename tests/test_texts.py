@@ -151,6 +151,10 @@ class TestBadHouse(Reading):
         self.bad_at(5, "ask s a wait yield oust wait yield", "ask s a wait yield oust wait yield oust wait", "ask s a")
         self.bad_at(5, "ask s a wait yield oust wait yield oust wait wait", "ask s a wait yield oust wait")
         self.bad_at(5, "ask s a wait yield oust wait yield ousts", "ask s a wait yield oust wait yield Oust")
+        for at in range(6):
+            words = "wait yield oust wait yield oust".split()
+            words[at] = "waits"
+            self.bad_at(5, " ".join(["ask", "s", "a", *words]))
         self.bad_at(5, "ask a s wait yield oust wait yield oust", "ask x a wait yield oust wait yield oust")
         self.bad_at(5, "ask s x wait yield oust wait yield oust", "ask wait yield oust wait yield oust")
 
@@ -226,7 +230,7 @@ class TestBadProgram(Reading):
         self.bad_program("\n# program a\nwork\nprogram a", 2)
 
     def test_take_lines(self):
-        for line in ("take s", "take s 1 1", "take u 1", "take a 1", "take 1 s", "take 0 1", "take S 1", "take s s"):
+        for line in ("take s", "take s 1 1", "takes s 1", "work s 1", "take u 1", "take a 1", "take 1 s", "take 0 1", "take S 1", "take s s"):
             self.bad_program(with_line(PROGRAM, 1, line), 1)
 
     def test_numbers(self):
