@@ -15,6 +15,29 @@ def knots_by(edges):
     return sorted(set([tuple([one for one in ahead[node] if node in ahead.get(one, [])]) for node in turning]))
 
 
+def is_bad_by(house, edges, knot):
+    """Tell whether a knot of these edges is bad."""
+    words = [edge[2] for edge in edges if edge[0] in knot and edge[1] in knot]
+    if "younger" not in words:
+        return False
+    return "elder" in words or any([is_moving(house, node) for node in knot])
+
+
+def ranks_by(edges, nodes):
+    """A dict from these nodes, from which edges lead to such nodes alone, to integers, which never grow along an edge.
+
+    Only nodes of one knot have the same integer.
+    """
+    ahead = {node: heads_ahead(edges, node) for node in nodes}
+    ranks = {}
+    for node in nodes:
+        alike = [one for one in nodes if one == node or (one in ahead[node] and node in ahead[one])]
+        # Whoever leads to another one, and not back, leads to more nodes than that.
+        ranks[node] = (len(set(ahead[node] + [node])), alike[0])
+    order = sorted(set([ranks[node] for node in nodes]))
+    return {node: order.index(ranks[node]) for node in nodes}
+
+
 def knot_of(house, node):
     for knot in knots_of(house):
         if node in knot:
@@ -31,8 +54,7 @@ def words_in(house, knot):
 
 
 def is_bad(house, knot):
-    words = words_in(house, knot)
-    return len(words) == 2 or ("younger" in words and any([is_moving(house, node) for node in knot]))
+    return is_bad_by(house, edges_of(house), knot)
 
 
 def is_young(house, knot):

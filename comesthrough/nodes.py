@@ -23,12 +23,22 @@ def is_moving(house, node):
     return node[0] == "anew" and not house[0][node[1]][1]
 
 
+def nodes_of(house, kind):
+    """The ascending list of the nodes of one kind."""
+    return [("anew", kind), ("stand", kind)] if is_last(house, kind) else [("stand", kind)]
+
+
+def word_of(house, place):
+    """What the other one is, at a place, to who waits or is put out there."""
+    return ASKERS[place[3]] if word_at(house, place) == "oust" else HOLDERS[place[3]]
+
+
 def edges_of(house):
-    return [edge for edge in _all_edges(house) if not _is_left_out(house, edge)]
+    return [edge for edge in _all_edges(house) if not is_left_out(house, edge)]
 
 
 def left_out(house):
-    return [edge for edge in _all_edges(house) if _is_left_out(house, edge)]
+    return [edge for edge in _all_edges(house) if is_left_out(house, edge)]
 
 
 def places_of_edge(house, node, other, word):
@@ -44,6 +54,22 @@ def nodes_ahead(house, node):
     return heads_ahead(edges_of(house), node)
 
 
+def is_left_out(house, edge):
+    """Tell whether an edge is left out, for moving and fixed nodes are at its ends."""
+    node, other, word = edge
+    if is_moving(house, node):
+        return word == "younger" and not is_moving(house, other)
+    return word == "elder" and is_moving(house, other)
+
+
+def edges_from(edges):
+    """A dict from the nodes from which these edges lead to the lists of these."""
+    leading = {}
+    for edge in edges:
+        leading.setdefault(edge[0], []).append(edge)
+    return leading
+
+
 def heads_of(edges, node):
     """The ascending list of the nodes to which one of these edges leads from a node."""
     return sorted(set([edge[1] for edge in edges if edge[0] == node]))
@@ -51,13 +77,14 @@ def heads_of(edges, node):
 
 def heads_ahead(edges, node):
     """The ascending list of the nodes to which one or more of these edges lead from a node."""
+    leading = edges_from(edges)
     ahead = set()
-    left = heads_of(edges, node)
+    left = [node]
     while left:
-        here = left.pop()
-        if here not in ahead:
-            ahead.add(here)
-            left.extend(heads_of(edges, here))
+        for edge in leading.get(left.pop(), []):
+            if edge[1] not in ahead:
+                ahead.add(edge[1])
+                left.append(edge[1])
     return sorted(ahead)
 
 
@@ -66,24 +93,18 @@ def _all_edges(house):
     return sorted(set([edge for place in places_of(house) for edge in _edges_at(house, place)]))
 
 
-def _is_left_out(house, edge):
-    node, other, word = edge
-    if is_moving(house, node):
-        return word == "younger" and not is_moving(house, other)
-    return word == "elder" and is_moving(house, other)
-
-
 def _edges_at(house, place):
     """The edges that the word at a place makes, left out or not."""
-    _, asker, holder, side = place
-    word = word_at(house, place)
+    _, asker, holder, _ = place
+    said = word_at(house, place)
+    word = word_of(house, place)
     edges = []
-    if word == "wait":
-        edges.append((("stand", asker), ("stand", holder), HOLDERS[side]))
-    if word == "yield" and is_last(house, asker):
-        edges.append((("anew", asker), ("stand", holder), HOLDERS[side]))
+    if said == "wait":
+        edges.append((("stand", asker), ("stand", holder), word))
+    if said == "yield" and is_last(house, asker):
+        edges.append((("anew", asker), ("stand", holder), word))
         if is_last(house, holder):
-            edges.append((("anew", asker), ("anew", holder), HOLDERS[side]))
-    if word == "oust" and is_last(house, asker) and is_last(house, holder):
-        edges.append((("anew", holder), ("anew", asker), ASKERS[side]))
+            edges.append((("anew", asker), ("anew", holder), word))
+    if said == "oust" and is_last(house, asker) and is_last(house, holder):
+        edges.append((("anew", holder), ("anew", asker), word))
     return edges

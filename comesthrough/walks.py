@@ -1,8 +1,8 @@
 """Walks along the edges of a house."""
 
 from comesthrough.forms import is_tuple
-from comesthrough.knots import is_bad, knots_of
-from comesthrough.nodes import edges_of, is_moving, is_node
+from comesthrough.knots import is_bad_by, knots_by
+from comesthrough.nodes import edges_from, edges_of, is_moving, is_node
 
 
 def is_walk(house, thing):
@@ -15,18 +15,21 @@ def is_walk(house, thing):
 
 
 def way_to(house, node, nodes):
-    def behind(_, edge):
-        return (edge[1],)
-
-    def is_end(state):
-        return state[0] in nodes
-
-    return _shortest(edges_of(house), (node,), behind, is_end)
+    return way_by(edges_of(house), node, nodes)
 
 
 def bad_way(house, node):
-    bad = [one for knot in knots_of(house) if is_bad(house, knot) for one in knot]
-    return way_to(house, node, tuple(sorted(bad)))
+    return way_by(edges_of(house), node, bad_nodes(house))
+
+
+def bad_nodes(house):
+    """The ascending list of the nodes of all bad knots."""
+    return bad_by(house, edges_of(house))
+
+
+def bad_by(house, edges):
+    """The ascending list of the nodes of all bad knots of these edges."""
+    return sorted([node for knot in knots_by(edges) if is_bad_by(house, edges, knot) for node in knot])
 
 
 def is_turning(house, walk):
@@ -35,6 +38,22 @@ def is_turning(house, walk):
 
 
 def turning_walk(house, node):
+    return turning_by(house, edges_of(house), node)
+
+
+def way_by(edges, node, nodes):
+    """As few of these edges as can be, one behind the other, from a node to one of nodes, or None."""
+    def behind(_, edge):
+        return (edge[1],)
+
+    def is_end(state):
+        return state[0] in nodes
+
+    return _shortest(edges, (node,), behind, is_end)
+
+
+def turning_by(house, edges, node):
+    """As few of these edges as can be that are a closed walk from a node which is turning, or None."""
     def behind(state, edge):
         _, elder, younger, moving = state
         _, other, word = edge
@@ -43,7 +62,7 @@ def turning_walk(house, node):
     def is_end(state):
         return state[0] == node and _turns(state[1], state[2], state[3])
 
-    return _shortest(edges_of(house), (node, False, False, is_moving(house, node)), behind, is_end)
+    return _shortest(edges, (node, False, False, is_moving(house, node)), behind, is_end)
 
 
 def end_of(node, walk):
@@ -67,6 +86,7 @@ def _shortest(edges, start, behind, is_end):
 
     The node of a state is its first item; behind(state, edge) is the state behind an edge.
     """
+    leading = edges_from(edges)
     ways = {start: ()}
     front = [start]
     while front:
@@ -75,11 +95,10 @@ def _shortest(edges, start, behind, is_end):
                 return ways[state]
         fresh = []
         for state in front:
-            for edge in edges:
-                if edge[0] == state[0]:
-                    other = behind(state, edge)
-                    if other not in ways:
-                        ways[other] = ways[state] + (edge,)
-                        fresh.append(other)
+            for edge in leading.get(state[0], []):
+                other = behind(state, edge)
+                if other not in ways:
+                    ways[other] = ways[state] + (edge,)
+                    fresh.append(other)
         front = fresh
     return None

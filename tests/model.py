@@ -100,7 +100,7 @@ def model_words(house, run):
     model = Model(house, run[0])
     words = []
     for index, person in enumerate(run[1]):
-        if not model.can_step(person):
+        if person >= len(run[0]) or not model.can_step(person):
             return index
         words.append(model.step(person))
     return words
@@ -229,3 +229,124 @@ def model_knots(house, nodes):
 def model_is_bad(house, knot):
     words = {edge[2] for edge in model_kept_edges(house) if edge[0] in knot and edge[1] in knot}
     return len(words) == 2 or ("younger" in words and any(model_moves(house, node) for node in knot))
+
+
+def model_nodes(house):
+    """All nodes, ascending."""
+    last = [kind for kind in range(len(house[0])) if house[0][kind][2] == kind]
+    return sorted([("stand", kind) for kind in range(len(house[0]))] + [("anew", kind) for kind in last])
+
+
+def model_nodes_of(house, kind):
+    return [node for node in model_nodes(house) if node[1] == kind]
+
+
+def model_leading(house, goals):
+    """The nodes that are goals, or from which a way leads to one."""
+    nodes = model_nodes(house)
+    reach = model_reach(model_kept_edges(house), nodes)
+    return [node for node in nodes if node in goals or any((node, goal) in reach for goal in goals)]
+
+
+def model_held_nodes(house):
+    knots = model_knots(house, model_nodes(house))
+    return model_leading(house, [node for knot in knots if model_is_bad(house, knot) for node in knot])
+
+
+def model_outs(house, kind):
+    """The places at which a kind can be put out, with what the other one is to it."""
+    _, sorts, judge = house
+    found = []
+    for sort in range(len(sorts)):
+        for other in range(len(house[0])):
+            for side in (0, 1):
+                if judge[sort][kind][other][side] == "yield":
+                    found.append(((sort, kind, other, side), ("younger", "elder")[side]))
+                if judge[sort][other][kind][side] == "oust":
+                    found.append(((sort, other, kind, side), ("elder", "younger")[side]))
+    return sorted(found)
+
+
+def model_raised(house, kind):
+    """The kinds to which a program can be raised, itself first."""
+    raised = [kind]
+    while model_outs(house, raised[-1]) and house[0][raised[-1]][2] != raised[-1]:
+        raised.append(house[0][raised[-1]][2])
+    return tuple(raised)
+
+
+def model_nodes_ever(house, kind):
+    return [node for raised in model_raised(house, kind) for node in model_nodes_of(house, raised)]
+
+
+def model_is_held(house, kind):
+    held = model_held_nodes(house)
+    return any(node in held for node in model_nodes_ever(house, kind))
+
+
+def model_turns(house, walk):
+    words = {edge[2] for edge in walk}
+    moves = any(model_moves(house, edge[0]) for edge in walk)
+    return words == {"elder", "younger"} or (moves and "younger" in words)
+
+
+def model_is_story(house, kind, thing):
+    """Whether a tuple of the form of a run or a round is a story of a kind."""
+    programs, row = thing[0], thing[1]
+    again = thing[2] if len(thing) == 3 else ()
+    if not programs or programs[0][0] != kind or not isinstance(model_words(house, (programs, row + again)), list):
+        return False
+    states = []
+    for steps in (row, row + again):
+        model = Model(house, programs)
+        for person in steps:
+            model.step(person)
+        states.append(model.state())
+        if model.people[0].status == "ended":
+            return False
+    if len(thing) == 2:
+        return not any(model.can_step(person) for person in range(len(programs)))
+    return len(again) > 0 and states[0] == states[1] and model_unfair(house, thing) == []
+
+
+def model_outs_done(house, run):
+    """What put persons out in a run: tuples (person, its kind, word, what the other one was to it, the step)."""
+    model = Model(house, run[0])
+    found = []
+    for index, person in enumerate(run[1]):
+        lock, order = model.lock_at(person), list(model.order)
+        holder = None if lock is None else model.holder(lock)
+        kinds = [one.kind for one in model.people]
+        word = model.step(person)
+        if word in ("yield", "oust"):
+            one, other = (person, holder) if word == "yield" else (holder, person)
+            told = "elder" if order.index(other) < order.index(one) else "younger"
+            found.append((one, kinds[one], word, told, index))
+    return found
+
+
+def drawn_plan(draw, house, kind, most):
+    """A plan of a kind as held_plan returns them, of at most so many edges, drawn at random; or None."""
+    raises = model_raised(house, kind)
+    raises = raises[:draw.randint(1, len(raises))]
+    edges = model_kept_edges(house)
+    node = draw.choice(model_nodes_of(house, raises[-1]))
+    walk, starts, finds = [], [node], []
+    while len(walk) < most and [edge for edge in edges if edge[0] == node]:
+        walk.append(draw.choice([edge for edge in edges if edge[0] == node]))
+        node = walk[-1][1]
+        starts.append(node)
+    for begin in range(len(walk)):
+        for end in range(begin + 1, len(walk) + 1):
+            if starts[begin] == starts[end] and model_turns(house, walk[begin:end]):
+                finds.append((begin, end))
+    if not finds:
+        return None
+    begin, end = draw.choice(finds)
+    return (raises, tuple(walk[:begin]), tuple(walk[begin:end]))
+
+
+def persons_enough(house, plan):
+    """How many persons are enough for a plan by [8]."""
+    raises, way, ring = plan
+    return len(raises) + sum(2 if model_moves(house, edge[1]) else 1 for edge in way + ring)

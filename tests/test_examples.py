@@ -56,19 +56,49 @@ GRAPH = '''
 [True, None, None]
 '''
 
-# Those rows of the examples behind [32], and parts of rows, that need comesthrough.standing alone.
-STANDING = '''
+RINGS = '''
+>>> from comesthrough.rings import cross_couples, is_ring, ring_run
 >>> from comesthrough.standing import can_stand, is_standing_run, ring_of, ring_words, standing_kinds, waits_behind
+>>> from comesthrough.standpapers import is_calm, shown_calm
 >>> kept = ((("a", True, 0),), ("s",), (((("wait", "yield"),),),))
 >>> both = ((("a", True, 0),), ("s",), (((("wait", "wait"),),),))
->>> [can_stand(kept, 0), can_stand(both, 0)]
-[False, True]
+>>> [can_stand(kept, 0), can_stand(both, 0), is_ring(both, (0, 0, 0)), is_ring(kept, (0, 0)), cross_couples(both)]
+[False, True, True, False, [(0, 0)]]
 >>> one, other = (0, ((0, 0), (0, 1))), (0, ((0, 1), (0, 0)))
 >>> run = ((one, other), (0, 0, 1, 1, 0, 1))
 >>> [is_standing_run(both, 0, run), waits_behind(both, run), ring_of(both, run, 1), ring_words(both, run, 1)]
 [True, {0: 1, 1: 0}, [0, 1], ['younger', 'elder']]
->>> [standing_kinds(both)]
-[[0]]
+>>> [is_calm(kept, {0: (3, "younger")}), is_calm(both, {0: (3, "younger")}), shown_calm(kept, {0: (3, "younger")})]
+[True, False, [0]]
+>>> [standing_kinds(both), is_standing_run(both, 0, ring_run(both, (0, 0, 0)))]
+[[0], True]
+'''
+
+HELD = '''
+>>> from comesthrough.held import can_be_held, held_kinds, held_plan
+>>> from comesthrough.rankings import is_ranking, shown_through
+>>> from comesthrough.stories import held_story, is_story, story_of
+>>> moving = ((("a", False, 0),), ("s",), (((("yield", "wait"),),),))
+>>> kept = ((("a", True, 0),), ("s",), (((("yield", "wait"),),),))
+>>> [held_kinds(moving), held_kinds(kept), held_story(kept, 0)]
+[[0], [], None]
+>>> plan = ((0,), (), ((("anew", 0), ("anew", 0), "younger"),))
+>>> [held_plan(kept, 0), is_story(moving, 0, held_story(moving, 0)), is_story(moving, 0, story_of(moving, plan))]
+[None, True, True]
+>>> one, other = (0, ((0, 0), "work", (0, 1), "work")), (0, ((0, 1), "work", (0, 0), "work"))
+>>> is_story(((("a", True, 0),), ("s",), (((("wait", "wait"),),),)), 0, ((one, other), (0, 0, 1, 1, 0, 1, 0, 1)))
+True
+>>> [is_ranking(kept, {("stand", 0): 0, ("anew", 0): 1}), shown_through(kept, {("stand", 0): 0})]
+[True, []]
+'''
+
+# Those rows of the examples behind [43], and parts of rows, that need comesthrough.fewest alone.
+FEWEST = '''
+>>> from comesthrough.fewest import few_ring, few_run, few_standing
+>>> both = ((("a", True, 0),), ("s",), (((("wait", "wait"),),),))
+>>> kept = ((("a", True, 0),), ("s",), (((("wait", "yield"),),),))
+>>> [few_standing(both, 0), few_ring(both), few_standing(kept, 0), len(few_run(both, 0)[0])]
+[2, (0, 0), None, 2]
 '''
 
 
@@ -89,7 +119,13 @@ class TestExamples(unittest.TestCase):
         self.run_examples(GRAPH, 9)
 
     def test_behind_32(self):
-        self.run_examples(STANDING, 8)
+        self.run_examples(RINGS, 11)
+
+    def test_behind_37(self):
+        self.run_examples(HELD, 11)
+
+    def test_behind_43(self):
+        self.run_examples(FEWEST, 4)
 
 
 if __name__ == "__main__":

@@ -30,6 +30,12 @@ FUNCTIONS = {
         turning_walk(house, node)""",
     "standing": """waits_behind(house, run) ring_of(house, run, person) ring_words(house, run, person)
         is_standing_run(house, kind, thing) can_stand(house, kind) standing_kinds(house) standing_run(house, kind)""",
+    "standpapers": "calm_of(house) is_calm(house, thing) shown_calm(house, calm)",
+    "rings": "is_ring(house, kinds) ring_run(house, kinds) cross_couples(house)",
+    "held": "can_be_held(house, kind) held_kinds(house) held_nodes(house) held_plan(house, kind)",
+    "stories": "held_story(house, kind) story_of(house, plan) is_story(house, kind, thing)",
+    "rankings": "ranking_of(house) is_ranking(house, thing) shown_through(house, ranking)",
+    "fewest": "few_standing(house, kind) few_run(house, kind) few_ring(house)",
 }
 METHODS = {
     ("hall", "Hall"): """enter(program) step(person) kind_of(person) place_of(person) persons_many() waits_for(person)

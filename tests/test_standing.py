@@ -3,6 +3,7 @@
 import random
 import unittest
 
+from comesthrough.casts import eldest_first
 from comesthrough.errors import BadStep
 from comesthrough.hall import Hall
 from comesthrough.houses import raised_kinds
@@ -10,7 +11,7 @@ from comesthrough.knots import knots_of
 from comesthrough.nodes import all_nodes
 from comesthrough.runs import is_run, is_stuck, led, words_of
 from comesthrough.standing import (
-    can_stand, eldest_first, is_standing_run, ring_of, ring_words, standing_kinds, standing_run, waits_behind,
+    can_stand, is_standing_run, ring_of, ring_words, standing_kinds, standing_run, waits_behind,
 )
 from tests.model import Model, drawn_run, model_kept_edges, model_reach, tight_run
 from tests.samples import changed_leaves, changed_tuples, drawn_house, drawn_houses, junk, refusal
@@ -261,11 +262,11 @@ class TestStandingRuns(unittest.TestCase):
         self.assertEqual(len(ring_of(house, run, 0)), 2)
 
     def test_eldest_first(self):
-        links = [(1, "younger"), (2, "elder"), (3, "younger"), (1, "younger")]
-        order = eldest_first(links)
-        self.assertEqual(sorted(order), [0, 1, 2, 3])
-        for person, (other, word) in enumerate(links):
-            self.assertEqual(order.index(other) < order.index(person), word == "elder")
+        couples = [(1, 4), (4, 0), (3, 1), (2, 0), (7, 3), (0, 8)]
+        order = eldest_first([0, 1, 2, 3, 4], couples)
+        self.assertEqual(sorted(order), [0, 1, 2, 3, 4])
+        for elder, younger in couples[:4]:
+            self.assertLess(order.index(elder), order.index(younger))
 
 
 if __name__ == "__main__":
