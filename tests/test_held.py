@@ -147,7 +147,7 @@ class TestStories(unittest.TestCase):
             ("anew", 2, False, (True,)), ("anew", 2, True, (True,)), ("stand", 3, True, (False,)), ("anew", 3, False, (True,)),
         ):
             self.assertIn(told, seen)
-        self.assertGreater(len([many for many in lengths if many > 8]), 50)
+        self.assertGreater(len([many for many in lengths if many > 8]), 30)
 
     def test_sixty_edges(self):
         draw = random.Random(358)
