@@ -8,8 +8,9 @@ class Cast:
     """Persons who stand waiting for another one, or are put out by it again and again.
 
     Each has a LINK (node, other, place): ("stand", kind, ..) or ("anew", kind, ..), the person that holds it off, and
-    the place where the judge says so. Other may also be a number from free_number() on: then a lock with this number
-    is asked that no person of the cast holds. Helpers, told as helper_for returns them, raise person 0 from a kind.
+    the place where the judge says so. Other may also be a number from twice the number of all persons on: this is that
+    of a lock, then, which no person of the cast holds. Helpers, told as helper_for returns them, are persons, too, and
+    raise person 0 from a kind.
 
     Who is put out is so once in each lap, by persons who never change. Of those with moving nodes the first ones, whose
     numbers are below firsts, are put out one behind the other, and then begin again, so that they are the youngest
@@ -34,10 +35,6 @@ class Cast:
         # Each lot is put out from its youngest one on.
         self._lots = lots + [[person] for person in fixed if not self._stands(person)]
         self._turns = [person for lot in self._lots for person in lot[::-1]]
-
-    def free_number(self):
-        """A number from which on no lock has one."""
-        return 2 * len(self._links) + len(self._helpers)
 
     def programs(self):
         """The programs of all persons, and behind them those of the helpers."""
@@ -99,6 +96,10 @@ class Cast:
             return (self.programs(), row)
         return (self.programs(), row, tuple(self.lap()))
 
+    def lost_lock(self, person):
+        """The lock that a person has when it is ousted, and takes for that alone: who ousts it has it from then on."""
+        return (self._links[person][2][0], len(self._links) + len(self._helpers) + person)
+
     def _moves(self, person):
         return is_moving(self._house, self._links[person][0])
 
@@ -122,9 +123,9 @@ class Cast:
         deeds.append("work")
         at = self._turns.index(person)
         for one in self._ousted_by(person, self._turns[at + 1:] + self._turns[:at]):
-            deeds.extend([self._lost_lock(one), "work"])
+            deeds.extend([self.lost_lock(one), "work"])
         if self._is_ousted(person):
-            return (kind, tuple(deeds + [self._lost_lock(person), "work"]))
+            return (kind, tuple(deeds + [self.lost_lock(person), "work"]))
         return (kind, tuple(deeds + [(place[0], other)]))
 
     def _kept(self, person):
@@ -140,10 +141,6 @@ class Cast:
             if other == person and not self._is_ousted(one)
         ]
         return met + [(sort, person) for sort in sorted(set(asked))]
-
-    def _lost_lock(self, person):
-        """The lock that a person has when it is ousted, and takes for that alone: who ousts it has it from then on."""
-        return (self._links[person][2][0], len(self._links) + len(self._helpers) + person)
 
     def _ousted_by(self, person, others):
         """Those of others that a person ousts, in the same order."""
@@ -194,11 +191,15 @@ def eldest_first(persons, couples):
 
 
 def helper_for(house, kind):
-    """Who can put out person 0 while it is of a kind: a tuple (sort, kind, yields, elder).
+    """Who can put out person 0 while it is of a kind, as helper_at tells it."""
+    return helper_at(house, outs_at(house, kind)[0])
 
-    It is met at a lock of this sort; person 0 yields to it, or it ousts person 0; it is elder than that or younger.
+
+def helper_at(house, place):
+    """Who can put another one out as the judge says at a place: a tuple (sort, kind, yields, elder).
+
+    It is met at a lock of this sort; the other one yields to it, or it ousts that; it is elder than that or younger.
     """
-    place = outs_at(house, kind)[0]
     sort, asker, holder, _ = place
     yields = word_at(house, place) == "yield"
     return (sort, holder if yields else asker, yields, word_of(house, place) == "elder")

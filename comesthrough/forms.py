@@ -17,6 +17,11 @@ def is_tuple(many, thing):
     return isinstance(thing, tuple) and len(thing) == many
 
 
+def is_work(thing):
+    """Tell whether a value is the deed "work"."""
+    return isinstance(thing, str) and thing == "work"
+
+
 def is_name(thing):
     return isinstance(thing, str) and 1 <= len(thing) <= 8 and all(["a" <= sign <= "z" for sign in thing])
 
@@ -95,13 +100,9 @@ def _is_couple(thing):
 
 
 def _are_deeds(house, deeds):
-    locks = [deed for deed in deeds if not _is_work(deed)]
+    locks = [deed for deed in deeds if not is_work(deed)]
     # Only locks are sure to go into a set, so whether they are unlike is asked last.
     return len(deeds) >= 1 and all([is_lock(house, lock) for lock in locks]) and _are_unlike(locks)
-
-
-def _is_work(thing):
-    return isinstance(thing, str) and thing == "work"
 
 
 def _are_unlike(things):

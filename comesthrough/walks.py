@@ -65,6 +65,22 @@ def turning_by(house, edges, node):
     return _shortest(edges, (node, False, False, is_moving(house, node)), behind, is_end)
 
 
+def young_by(edges, node):
+    """As few of these edges as can be that are a closed walk from a node with an edge "younger", or None."""
+    def behind(state, edge):
+        return (edge[1], state[1] or edge[2] == "younger")
+
+    def is_end(state):
+        return state == (node, True)
+
+    return _shortest(edges, (node, False), behind, is_end)
+
+
+def is_closed(house, thing):
+    """Tell whether a value is a closed walk."""
+    return is_walk(house, thing) and len(thing) > 0 and thing[-1][1] == thing[0][0]
+
+
 def end_of(node, walk):
     """Where a walk ends that begins at a node."""
     return walk[-1][1] if walk else node

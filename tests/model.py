@@ -1,5 +1,6 @@
 """The hall, rounds and the graph once more, as plainly as the document's words have them, to compare with."""
 
+import functools
 import random
 
 from tests.samples import drawn_house, drawn_program
@@ -203,8 +204,22 @@ def model_is_left_out(house, edge):
     return (moves == (False, True) and edge[2] == "elder") or (moves == (True, False) and edge[2] == "younger")
 
 
+@functools.lru_cache(maxsize=2000)
+def kept_edges(house):
+    return tuple(edge for edge in sorted(model_edges(house)) if not model_is_left_out(house, edge))
+
+
 def model_kept_edges(house):
-    return [edge for edge in sorted(model_edges(house)) if not model_is_left_out(house, edge)]
+    return list(kept_edges(house))
+
+
+@functools.lru_cache(maxsize=2000)
+def model_leads(house):
+    """A dict from the nodes to the edges from them."""
+    leads = {}
+    for edge in kept_edges(house):
+        leads.setdefault(edge[0], []).append(edge)
+    return leads
 
 
 def model_reach(edges, nodes):

@@ -103,3 +103,20 @@ def refusal(call, *told):
     except ThroughError as error:
         return error
     return None
+
+
+AGED = ((("oust", "yield"),) * 5 + (("oust", "wait"),) * 3 + (("wait", "yield"),) * 3
+        + (("yield", "wait"), ("yield", "oust"), ("wait", "oust")))
+
+
+def aged_house(draw, kinds=None, couples=AGED):
+    """A house in which the elder one mostly comes through, so that many a kind is held off by newcomers alone."""
+    kinds = kinds or draw.randint(1, 5)
+    house = drawn_house(draw, kinds=kinds, sorts=draw.choice([1, 1, 2]))
+    judge = tuple(tuple(tuple(draw.choice(couples) for _ in range(kinds)) for _ in range(kinds)) for _ in house[1])
+    return house[:2] + (judge,)
+
+
+def aged_houses(seed, many, **told):
+    draw = random.Random(seed)
+    return [aged_house(draw, **told) for _ in range(many)]

@@ -92,13 +92,53 @@ True
 [True, []]
 '''
 
-# Those rows of the examples behind [43], and parts of rows, that need comesthrough.fewest alone.
-FEWEST = '''
+FEW = '''
 >>> from comesthrough.fewest import few_ring, few_run, few_standing
+>>> from comesthrough.fewheld import few_held, few_story, is_plan, plan_cost
+>>> from comesthrough.growing import by_sorts, few_table, fewer_by
 >>> both = ((("a", True, 0),), ("s",), (((("wait", "wait"),),),))
 >>> kept = ((("a", True, 0),), ("s",), (((("wait", "yield"),),),))
->>> [few_standing(both, 0), few_ring(both), few_standing(kept, 0), len(few_run(both, 0)[0])]
-[2, (0, 0), None, 2]
+>>> [few_standing(both, 0), few_ring(both), few_standing(kept, 0), few_held(kept, 0), len(few_run(both, 0)[0])]
+[2, (0, 0), None, None, 2]
+>>> moving = ((("a", False, 0),), ("s",), (((("yield", "wait"),),),))
+>>> plan = ((0,), (), ((("anew", 0), ("anew", 0), "younger"),))
+>>> [few_held(both, 0), few_held(moving, 0), is_plan(moving, 0, plan), plan_cost(moving, plan)]
+[(2, 3), (2, 3), True, 3]
+>>> [few_table(moving), fewer_by(kept, 0, 2), by_sorts(both, 0)]
+[[(2, 3)], [((0, 0, 0, 0), 'yield'), ((0, 0, 0, 1), 'wait')], [(0,)]]
+'''
+
+OPEN = '''
+>>> from comesthrough.newcomers import comes_through_open, is_open_reason, open_kinds, outs_of
+>>> from comesthrough.openstories import is_open_ranking, is_open_story, shown_open
+>>> from comesthrough.streams import goes_on, is_stream, led_stream, stream_holds
+>>> waits = ((("a", True, 0),), ("s",), (((("wait", "yield"),),),))
+>>> ousts = ((("a", True, 0),), ("s",), (((("oust", "wait"),),),))
+>>> [comes_through_open(waits, 0), open_kinds(ousts), outs_of(ousts, 0), outs_of(waits, 0)]
+[False, [0], [((0, 0, 0, 0), 'elder')], [((0, 0, 0, 1), 'elder')]]
+>>> is_open_reason(waits, 0, ((0,), (), ((("stand", 0), ("stand", 0), "younger"),)))
+True
+>>> first, last = (0, ((0, 1),)), (0, ((0, 1), (0, 2)))
+>>> stream = ((first, last), (0, 1, 1, 0), ((0, ((0, 2, 1), (0, 3, 1))),), (("new", 0, 0), ("new", 0, 0), ("new", 0, 1)))
+>>> [is_stream(waits, stream), goes_on(waits, stream), stream_holds(waits, stream), is_open_story(waits, 0, stream)]
+[True, True, [0], True]
+>>> led_stream(waits, stream, 1)
+(((0, ((0, 1),)), (0, ((0, 1), (0, 2))), (0, ((0, 2), (0, 3)))), (0, 1, 1, 0, 2, 2, 1))
+>>> ranking = {("anew", 0): 0, ("stand", 0): 0}
+>>> [is_open_ranking(ousts, ranking), shown_open(ousts, ranking), is_open_ranking(waits, ranking)]
+[True, [0], False]
+'''
+
+# Those rows of the examples behind [52], and parts of rows, that need comesthrough.orders alone.
+ORDERS = '''
+>>> from comesthrough.orders import can_be_held_by, first_unordered, order_knots, row_order
+>>> wait = (((("wait", "wait"),),), ((("wait", "wait"),),))
+>>> house = ((("k", True, 0),), ("s", "t"), wait)
+>>> [row_order(house, (1, 0)), first_unordered(((0, 1),), (0, ((0, 4), "work", (1, 0), (0, 5))))]
+[((1, 0),), 3]
+>>> order = ((0, 0), (0, 1), (1, 0))
+>>> [order_knots(house, order), can_be_held_by(house, ((0, 1),), 0)]
+[[(('stand', 0, 0), ('stand', 0, 1))], False]
 '''
 
 
@@ -125,7 +165,13 @@ class TestExamples(unittest.TestCase):
         self.run_examples(HELD, 11)
 
     def test_behind_43(self):
-        self.run_examples(FEWEST, 4)
+        self.run_examples(FEW, 10)
+
+    def test_behind_47(self):
+        self.run_examples(OPEN, 13)
+
+    def test_behind_52(self):
+        self.run_examples(ORDERS, 6)
 
 
 if __name__ == "__main__":

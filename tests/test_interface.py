@@ -36,6 +36,18 @@ FUNCTIONS = {
     "stories": "held_story(house, kind) story_of(house, plan) is_story(house, kind, thing)",
     "rankings": "ranking_of(house) is_ranking(house, thing) shown_through(house, ranking)",
     "fewest": "few_standing(house, kind) few_run(house, kind) few_ring(house)",
+    "fewheld": """few_held(house, kind) short_plan(house, kind) cheap_plan(house, kind) few_story(house, kind)
+        plan_cost(house, plan) is_plan(house, kind, thing)""",
+    "growing": "few_table(house) fewer_by(house, kind, most) by_sorts(house, kind)",
+    "newcomers": """outs_of(house, kind) open_kinds(house) comes_through_open(house, kind)
+        is_open_reason(house, kind, thing) open_reason(house, kind)""",
+    "streams": """is_stream(house, thing) goes_on(house, stream) led_stream(house, stream, times)
+        stream_holds(house, stream)""",
+    "openstories": """open_story(house, kind) is_open_story(house, kind, thing) is_open_ranking(house, thing)
+        open_ranking(house) shown_open(house, ranking)""",
+    "orders": """is_order(house, thing) can_be_held_by(house, order, kind) is_held_by(house, order, kind, thing)
+        first_unordered(order, program) row_order(house, row) spots_of(house) order_edges(house, order)
+        order_knots(house, order) bad_knots(house, order) held_by_order(house, order, kind)""",
 }
 METHODS = {
     ("hall", "Hall"): """enter(program) step(person) kind_of(person) place_of(person) persons_many() waits_for(person)
