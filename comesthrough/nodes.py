@@ -81,7 +81,8 @@ def heads_ahead(edges, node):
     ahead = set()
     left = [node]
     while left:
-        for edge in leading.get(left.pop(), []):
+        here = left.pop()
+        for edge in leading.get(here, []):
             if edge[1] not in ahead:
                 ahead.add(edge[1])
                 left.append(edge[1])

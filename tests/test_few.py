@@ -311,6 +311,12 @@ class TestGrowing(unittest.TestCase):
                 seen.add(len(wanted))
         self.assertTrue({0, 1, 2, (0, 1), (0, 2), (1, 2)} <= seen, seen)
 
+    def test_sorts_in_order(self):
+        # The middle one alone, or both others; each of these has only one of the two words between nodes with "stand".
+        judge = tuple((((words,),)) for words in (("wait", "yield"), ("wait", "wait"), ("oust", "wait")))
+        house = ((("a", True, 0),), ("s", "t", "u"), judge)
+        self.assertEqual(by_sorts(house, 0), [(0, 2), (1,)])
+
     def test_all_three_sorts(self):
         # One sort leads from a to b, the others have one word each of b's waiting for itself.
         apart = [[("oust", "yield"), ("oust", "oust")], [("yield", "yield"), ("oust", "yield")]]

@@ -217,6 +217,12 @@ class TestReasons(unittest.TestCase):
         self.assertIs(is_open_reason(house, 0, ((0, 1), (), ring)), False)
         self.assertIs(is_open_reason(house, 1, ((1,), (), ring)), True)
 
+    def test_truths_among_raises(self):
+        house = ((("a", True, 1), ("b", True, 1)), ("s",), ((((("wait", "yield"),) * 2,) * 2),))
+        ring = ((("stand", 1), ("stand", 1), "younger"),)
+        for raises, wanted in (((0, 1), True), ((False, 1), False), ((0, True), False), ((False, True), False), ([0, 1], False)):
+            self.assertIs(is_open_reason(house, 0, (raises, (), ring)), wanted)
+
     def test_any_value(self):
         for house in (WAITS, one_kind(False, "wait", "yield"), one_kind(True, "yield", "wait")):
             reason = open_reason(house, 0)

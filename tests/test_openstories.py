@@ -4,7 +4,7 @@ import random
 import unittest
 
 from comesthrough.hall import Hall
-from comesthrough.newcomers import open_kinds
+from comesthrough.newcomers import open_kinds, open_reason
 from comesthrough.openstories import is_open_ranking, is_open_story, open_ranking, open_story, shown_open
 from comesthrough.rankings import is_ranking
 from comesthrough.stories import held_story, is_story
@@ -13,9 +13,7 @@ from tests.model import (
     Model, drawn_rounds, drawn_run, model_is_held, model_is_story, model_kept_edges, model_nodes, model_nodes_ever,
     model_words,
 )
-from tests.openmodel import (
-    model_broken, model_comes_through_open, model_fitting_outs, model_names, model_open_nodes,
-)
+from tests.openmodel import model_broken, model_comes_through_open, model_fitting_outs, model_open_nodes
 from tests.samples import aged_houses, changed_leaves, changed_tuples, drawn_house, drawn_houses, junk
 from tests.test_papers import never_papers
 from tests.test_streams import STREAM, changed
@@ -27,6 +25,8 @@ HOUSES = (
     + aged_houses(476, 100, kinds=3, couples=(("oust", "wait"),) * 4 + (("oust", "yield"),) * 4 + (("wait", "oust"),))
     + aged_houses(477, 60, kinds=4, couples=(("oust", "wait"),))
     + aged_houses(482, 80, kinds=4, couples=(("oust", "yield"),) * 6 + (("wait", "yield"),))
+    + aged_houses(483, 100, kinds=5, couples=(("oust", "yield"),) * 6 + (("yield", "oust"),) + (("oust", "wait"),) * 3)
+    + aged_houses(484, 100, kinds=4, couples=(("oust", "yield"),) * 6 + (("wait", "oust"), ("yield", "wait"), ("wait", "yield")))
 )
 WAITS = ((("a", True, 0),), ("s",), (((("wait", "yield"),),),))
 OUSTS = ((("a", True, 0),), ("s",), (((("oust", "wait"),),),))
@@ -66,14 +66,19 @@ class TestOpenStories(unittest.TestCase):
                 self.assertTrue(is_stream(house, story) and goes_on(house, story))
                 self.assertEqual(model_broken(house, story), set())
                 self.assertIn(0, stream_holds(house, story))
-                told = (min(len(story[2]), 2), min(len(model_names(story)), 4))
-                seen[told] = seen.get(told, 0) + 1
+                raises, way, what = open_reason(house, kind)
+                for told in (len(story[2]), (len(raises) > 1, len(way), what[-1] if isinstance(what[-1], str) else "ring")):
+                    seen[told] = seen.get(told, 0) + 1
             for kind in range(len(house[0])):
                 if model_is_held(house, kind):
                     self.assertEqual(len(open_story(house, kind)), len(held_story(house, kind)))
         self.assertGreater(seen["none"], 100)
-        for told in ((1, 1), (1, 2), (1, 3), (1, 4), (2, 3), (2, 4)):
-            self.assertGreater(seen.get(told, 0), 3, seen)
+        self.assertGreater(min(seen.get(told, 0) for told in (1, 2, 3)), 3, seen)
+        for told in (
+            (False, 0, "elder"), (True, 0, "elder"), (False, 0, "younger"), (False, 1, "younger"), (True, 0, "younger"),
+            (True, 1, "younger"), (False, 0, "ring"), (False, 1, "ring"), (False, 2, "ring"), (True, 1, "ring"),
+        ):
+            self.assertGreater(seen.get(told, 0), 2, seen)
 
     def test_streams_are_led_on(self):
         # Person 0 is held off in far more laps than goes_on asks of.

@@ -247,6 +247,16 @@ class TestRankings(unittest.TestCase):
             self.assertIs(is_ranking(house, {("stand", 0): 0}), True)
             self.assertIs(is_ranking(house, {("stand", 0): 0, ("anew", 0): 1}), keeps)
 
+    def test_younger_from_a_fixed_node_to_a_moving_one(self):
+        # A younger b ousts a; else all wait.
+        both = ("wait", "wait")
+        for keeps in (True, False):
+            house = ((("a", True, 0), ("b", keeps, 1)), ("s",), (((both, both), (("wait", "oust"), both)),))
+            anew = [edge for edge in model_kept_edges(house) if edge[0][0] == "anew"]
+            self.assertEqual(anew, [(("anew", 0), ("anew", 1), "younger")])
+            self.assertIs(is_ranking(house, {("anew", 0): 0, ("anew", 1): 0}), keeps)
+            self.assertIs(is_ranking(house, {("anew", 0): 1, ("anew", 1): 0}), True)
+
     def test_one_integer_has_one_word_also_where_no_edge_joins_them(self):
         house = ruled(("wait", "yield"), ("yield", "wait"))
         # Kind 0 waits for younger ones, of both kinds, kind 1 waits for elder ones of its own kind.

@@ -422,6 +422,10 @@ class TestGoesOn(unittest.TestCase):
             ring = ((0, ((0, 3 - mine), (1, 8), (1, 9))), (0, ((1, 9), (1, 8))))
             programs = ring + ((0, ((0, 1),)), (0, ((0, mine), (1, 9))), (0, ("work",)))
             self.assertEqual(self.check(TWO, (programs, row, fresh, again)), wanted)
+        # Who begins does not come to a lock, though its last deed is that one; it yields at another one.
+        ring = ((0, ((0, 2), (1, 8), (1, 9))), (0, ((1, 9), (1, 8))))
+        programs = ring + ((0, ((0, 2), (0, 1))), (0, ((0, 1), (1, 9))), (0, ("work",)))
+        self.assertEqual(self.check(TWO, (programs, row, fresh, again)), set())
 
     def test_who_can_step_while_it_is_spent(self):
         for done, wanted in ((1, {"spent steps"}), (2, {"spent steps"}), (3, set())):
