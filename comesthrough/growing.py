@@ -3,6 +3,7 @@
 from comesthrough.fewheld import cheap_plan, few_held, has_few
 from comesthrough.forms import WORDS
 from comesthrough.houses import places_of, with_word, word_at
+from comesthrough.lots import least_lots
 
 
 def few_table(house):
@@ -22,17 +23,9 @@ def fewer_by(house, kind, most):
 
 def by_sorts(house, kind):
     kinds, sorts, judge = house
-    lots = [()]
-    for sort in range(len(sorts)):
-        lots = lots + [lot + (sort,) for lot in lots]
-    holding = []
-    for lot in lots:
+
+    def is_enough(lot):
         alone = (kinds, tuple([sorts[sort] for sort in lot]), tuple([judge[sort] for sort in lot]))
-        if cheap_plan(alone, kind) is not None:
-            holding.append(lot)
-    return sorted([lot for lot in holding if not any([_is_within(other, lot) for other in holding])])
+        return cheap_plan(alone, kind) is not None
 
-
-def _is_within(lot, other):
-    """Tell whether a lot lies within another one."""
-    return lot != other and all([one in other for one in lot])
+    return least_lots(list(range(len(sorts))), is_enough)

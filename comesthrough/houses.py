@@ -42,14 +42,16 @@ def last_one(house, kind):
     return last
 
 
+def put_out_by(place, word):
+    """The kind that a word at a place puts out, or None."""
+    if word == "wait":
+        return None
+    return place[1] if word == "yield" else place[2]
+
+
 def outs_at(house, kind):
     """The ascending list of the places at which a kind is put out, as the asker or as the holder."""
-    return [
-        place
-        for place in places_of(house)
-        if (place[1] == kind and word_at(house, place) == "yield")
-        or (place[2] == kind and word_at(house, place) == "oust")
-    ]
+    return [place for place in places_of(house) if put_out_by(place, word_at(house, place)) == kind]
 
 
 def raised_kinds(house, kind):

@@ -53,9 +53,12 @@ def open_ends(house):
 
 def fitting_outs(house, node):
     """The ascending list of the outs by which newcomers can put out who is at a node for ever, again and again."""
-    if node[0] == "stand":
-        return []
-    return [out for out in outs_of(house, node[1]) if is_moving(house, node) or out[1] == "younger"]
+    return [out for out in outs_of(house, node[1]) if is_fitting(house, node, out[1])]
+
+
+def is_fitting(house, node, word):
+    """Tell whether who is at a node for ever can be put out again and again by newcomers that are this to it then."""
+    return node[0] == "anew" and (word == "younger" or is_moving(house, node))
 
 
 def _way_of(house, kind):

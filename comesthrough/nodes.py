@@ -30,7 +30,12 @@ def nodes_of(house, kind):
 
 def word_of(house, place):
     """What the other one is, at a place, to who waits or is put out there."""
-    return ASKERS[place[3]] if word_at(house, place) == "oust" else HOLDERS[place[3]]
+    return word_by(place, word_at(house, place))
+
+
+def word_by(place, said):
+    """What the other one is, at a place, to who waits or is put out there if the judge says this."""
+    return ASKERS[place[3]] if said == "oust" else HOLDERS[place[3]]
 
 
 def edges_of(house):
@@ -43,7 +48,7 @@ def left_out(house):
 
 def places_of_edge(house, node, other, word):
     edge = (node, other, word)
-    return [place for place in places_of(house) if edge in _edges_at(house, place)]
+    return [place for place in places_of(house) if edge in edges_by(house, place, word_at(house, place))]
 
 
 def next_nodes(house, node):
@@ -89,16 +94,10 @@ def heads_ahead(edges, node):
     return sorted(ahead)
 
 
-def _all_edges(house):
-    """The ascending list of all edges, those that are left out among them."""
-    return sorted(set([edge for place in places_of(house) for edge in _edges_at(house, place)]))
-
-
-def _edges_at(house, place):
-    """The edges that the word at a place makes, left out or not."""
+def edges_by(house, place, said):
+    """The edges that there are, left out or not, if the judge says this at a place."""
     _, asker, holder, _ = place
-    said = word_at(house, place)
-    word = word_of(house, place)
+    word = word_by(place, said)
     edges = []
     if said == "wait":
         edges.append((("stand", asker), ("stand", holder), word))
@@ -109,3 +108,9 @@ def _edges_at(house, place):
     if said == "oust" and is_last(house, asker) and is_last(house, holder):
         edges.append((("anew", holder), ("anew", asker), word))
     return edges
+
+
+def _all_edges(house):
+    """The ascending list of all edges, those that are left out among them."""
+    edges = [edge for place in places_of(house) for edge in edges_by(house, place, word_at(house, place))]
+    return sorted(set(edges))

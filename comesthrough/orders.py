@@ -2,7 +2,7 @@
 
 from comesthrough.casts import cast_along
 from comesthrough.errors import NotMeek
-from comesthrough.forms import is_index, is_tuple, is_work
+from comesthrough.forms import is_index, is_integer, is_tuple, is_work
 from comesthrough.houses import is_meek, places_of, word_at
 from comesthrough.knots import is_bad_by, knots_by
 from comesthrough.nodes import is_left_out, word_of
@@ -30,15 +30,28 @@ def row_order(house, row):
     return tuple(sorted([(sort, later) for at, sort in enumerate(row) for later in row[at + 1:]]))
 
 
+def ask_meek(house):
+    """Raise NotMeek if a house is not meek."""
+    if not is_meek(house):
+        raise NotMeek()
+
+
+def is_spot(house, thing):
+    """Tell whether any value is a spot of a meek house."""
+    if not (is_tuple(3, thing) and isinstance(thing[0], str) and thing[0] in ("anew", "stand")):
+        return False
+    return is_index(len(house[0]), thing[1]) and is_integer(thing[2]) and -1 <= thing[2] < len(house[1])
+
+
 def spots_of(house):
-    _ask_meek(house)
+    ask_meek(house)
     sorts = range(-1, len(house[1]))
     kinds = range(len(house[0]))
     return [(word, kind, sort) for word in ("anew", "stand") for kind in kinds for sort in sorts]
 
 
 def order_edges(house, order):
-    _ask_meek(house)
+    ask_meek(house)
     edges = [edge for place in places_of(house) for edge in _edges_at(house, order, place)]
     return sorted(set([edge for edge in edges if not is_left_out(house, edge)]))
 
@@ -66,13 +79,8 @@ def held_by_order(house, order, kind):
 
 
 def is_held_by(house, order, kind, thing):
-    _ask_meek(house)
+    ask_meek(house)
     return is_story(house, kind, thing) and all([first_unordered(order, program) is None for program in thing[0]])
-
-
-def _ask_meek(house):
-    if not is_meek(house):
-        raise NotMeek()
 
 
 def _is_couple(house, thing):

@@ -48,11 +48,31 @@ FUNCTIONS = {
     "orders": """is_order(house, thing) can_be_held_by(house, order, kind) is_held_by(house, order, kind, thing)
         first_unordered(order, program) row_order(house, row) spots_of(house) order_edges(house, order)
         order_knots(house, order) bad_knots(house, order) held_by_order(house, order, kind)""",
+    "orderpapers": "order_paper(house, order, kind) is_order_paper(house, order, kind, thing)",
+    "forbidding": """held_by_orders(house, order) least_forbidden(house, order, kinds) greatest_orders(house, kinds)
+        needless_couples(house, order, kind)""",
+    "fillings": """filled(house, places, words) fillings(house, places, kinds, is_open)
+        fixed_words(house, places, kinds, is_open) free_places(house, places, kinds, is_open)""",
+    "changes": """is_change(house, thing) changed(house, change) least_changes(house, kinds, is_open, most)
+        least_keeping(house, kinds, is_open) helping_rises(house, kind, is_open)""",
+    "blame": "holds(house, kind, places) least_holding(house, kind) blamed(house, kind) in_all(house, kind)",
+    "search": """states_many(house, programs) ways_on(house, programs, state) stuck_states(house, programs)
+        run_to(house, programs, state) ending_run(house, programs) can_all_end(house, programs)""",
+    "told": """told_story(house, programs, person) is_told_story(house, programs, person, thing) is_safe(house, programs)
+        held_persons(house, programs) safe_orders(house, programs, person) least_company(house, programs, person)""",
+    "staying": """led_staying(house, run) charges(house, run) puts_out(house, crew, one, other)
+        crew_round(house, crew)""",
+    "begins": "most_begins(house, crew) busiest_run(house, crew) is_possible(house, crew, counts)",
+    "naming": """through_kinds(house, is_open) gaining_kinds(house, kind, kinds, is_open)
+        nobody_gains(house, kinds, is_open) levelling_words(house, kinds, is_open)""",
 }
 METHODS = {
     ("hall", "Hall"): """enter(program) step(person) kind_of(person) place_of(person) persons_many() waits_for(person)
         holder_of(lock) locks_of(person) steppers() takers() ages() deeds_done() can_step(person) is_ended(person)
         can_take(person) state() undo() copied() __eq__(other) __init__(house)""",
+    ("book", "Book"): """put_word(place, word) put_keeps(kind, keeps) put_rise(kind, rise) add_kind(name, like)
+        drop_kind(kind) wish(thing) undo() redo() unwish(index) house_now() wishes_now() twin() __init__(house)""",
+    ("desk", "Desk"): "execute(line) book() __init__(text)",
 }
 
 

@@ -2,6 +2,7 @@
 
 import ast
 import builtins
+import functools
 import pathlib
 import re
 import unittest
@@ -23,6 +24,7 @@ BARRED_NAMES = """register mro elements open input law version_info with_traceba
     compile copyright credits delattr dir eval exec exit gc globals help id importlib license locals methodcaller os quit
     super type vars sys _cold _tuplegetter _outside _record _written_out _member_names""".split()
 BARRED_BEGINNINGS = ("_wall", "_pe_", "_dcw_", "_enum_", "_cm_", "_twin_re_", "_lay_", "_law_", "_stub_", "_sre")
+LIBRARY = {"itertools": {("product", None), ("combinations", None), ("permutations", None)}}
 STATEMENTS = (
     ast.Assign, ast.AugAssign, ast.If, ast.While, ast.For, ast.Return, ast.Break, ast.Continue, ast.Pass, ast.Raise,
     ast.Assert, ast.Delete, ast.Try, ast.Expr, ast.FunctionDef, ast.ClassDef, ast.ImportFrom,
@@ -33,10 +35,12 @@ BARRED_NODES = (
 )
 
 
+@functools.lru_cache
 def sources():
     return {path.stem: path.read_text(encoding="ascii") for path in sorted(FOLDER.glob("*.py"))}
 
 
+@functools.lru_cache
 def trees():
     return {name: ast.parse(text) for name, text in sources().items()}
 
@@ -94,12 +98,17 @@ class TestLanguage(unittest.TestCase):
 
     def test_module_level(self):
         for name, tree in trees().items():
+            above = []
             for at, node in enumerate(tree.body):
                 docstring = at == 0 and isinstance(node, ast.Expr) and isinstance(node.value, ast.Constant)
                 right = isinstance(node, (ast.ImportFrom, ast.FunctionDef, ast.ClassDef)) or docstring
+                above.extend([node.name] if isinstance(node, ast.FunctionDef) else [])
                 if isinstance(node, ast.Assign):
                     right = len(node.targets) == 1 and isinstance(node.targets[0], ast.Name)
-                    right = right and not any(isinstance(part, (ast.Call, ast.Name)) for part in ast.walk(node.value))
+                    parts = list(ast.walk(node.value))
+                    right = right and not any(isinstance(part, ast.Call) for part in parts)
+                    right = right and all(part.id in above for part in parts if isinstance(part, ast.Name))
+                    right = right and not any(isinstance(part, (ast.List, ast.Dict, ast.Set)) for part in parts[1:])
                 self.assertTrue(right, (name, node.lineno))
             names = [node.name for node in tree.body if isinstance(node, (ast.FunctionDef, ast.ClassDef))]
             names += [target.id for node in tree.body if isinstance(node, ast.Assign) for target in node.targets]
@@ -113,6 +122,9 @@ class TestLanguage(unittest.TestCase):
             used = [node.id for node in ast.walk(tree) if isinstance(node, ast.Name)]
             for node in [node for node in ast.walk(tree) if isinstance(node, ast.ImportFrom)]:
                 self.assertIn(node, tree.body)
+                if node.module in LIBRARY:
+                    self.assertLessEqual({(alias.name, alias.asname) for alias in node.names}, LIBRARY[node.module])
+                    continue
                 self.assertRegex(node.module, r"^comesthrough\.[a-z]+$")
                 other = node.module.split(".")[1]
                 leads[name].append(other)
@@ -196,6 +208,19 @@ class TestLanguage(unittest.TestCase):
                     self.assertTrue(is_eaten(node, parents) or kept and node.func.id == "range", (name, node.lineno))
                 if isinstance(node.func, ast.Attribute) and node.func.attr in VIEWS:
                     self.assertTrue(is_eaten(node, parents), (name, node.lineno))
+
+    def test_library(self):
+        for name, tree in trees().items():
+            parents = parents_of(tree)
+            taken = [alias.name for node in tree.body if isinstance(node, ast.ImportFrom) and node.module in LIBRARY
+                     for alias in node.names]
+            self.assertFalse([one for one in taken if bound_names(tree).count(one) > 1], name)
+            for node in ast.walk(tree):
+                if isinstance(node, ast.Name) and node.id in taken:
+                    call = parents[node]
+                    self.assertTrue(isinstance(call, ast.Call) and call.func is node and call.keywords == [], name)
+                    self.assertTrue(is_eaten(call, parents), (name, node.lineno))
+                    self.assertTrue(all(isinstance(part, ast.Name) for part in call.args), (name, node.lineno))
 
     def test_sets(self):
         for name, tree in trees().items():
