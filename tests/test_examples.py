@@ -129,16 +129,93 @@ True
 [True, [0], False]
 '''
 
-# Those rows of the examples behind [52], and parts of rows, that need comesthrough.orders alone.
 ORDERS = '''
+>>> from comesthrough.forbidding import greatest_orders, held_by_orders, least_forbidden
 >>> from comesthrough.orders import can_be_held_by, first_unordered, order_knots, row_order
+>>> from comesthrough.orderpapers import is_order_paper
 >>> wait = (((("wait", "wait"),),), ((("wait", "wait"),),))
 >>> house = ((("k", True, 0),), ("s", "t"), wait)
 >>> [row_order(house, (1, 0)), first_unordered(((0, 1),), (0, ((0, 4), "work", (1, 0), (0, 5))))]
 [((1, 0),), 3]
 >>> order = ((0, 0), (0, 1), (1, 0))
->>> [order_knots(house, order), can_be_held_by(house, ((0, 1),), 0)]
-[[(('stand', 0, 0), ('stand', 0, 1))], False]
+>>> [order_knots(house, order), can_be_held_by(house, ((0, 1),), 0), held_by_orders(house, order)]
+[[(('stand', 0, 0), ('stand', 0, 1))], False, [0]]
+>>> [least_forbidden(house, order, (0,)), greatest_orders(house, (0,))]
+[[((0, 0), (0, 1)), ((0, 0), (1, 0))], [((0, 1),), ((1, 0),)]]
+>>> ranks = {("stand", 0, -1): 2, ("stand", 0, 0): 1, ("stand", 0, 1): 0, ("anew", 0, -1): 0}
+>>> [is_order_paper(house, ((0, 1),), 0, ranks), is_order_paper(house, ((0, 0), (0, 1)), 0, ranks)]
+[True, False]
+'''
+
+CHANGES = '''
+>>> from comesthrough.blame import blamed, holds, in_all, least_holding
+>>> from comesthrough.changes import least_changes, least_keeping
+>>> from comesthrough.fillings import fillings, fixed_words
+>>> house = ((("a", True, 0),), ("s",), (((("wait", "wait"),),),))
+>>> elder, younger = (0, 0, 0, 0), (0, 0, 0, 1)
+>>> [fillings(house, (elder,), (0,), False), fillings(house, (elder,), (0,), True)]
+[[('oust',), ('yield',)], [('oust',)]]
+>>> fillings(house, (elder, younger), (0,), False)[:3]
+[('oust', 'wait'), ('oust', 'yield'), ('wait', 'oust')]
+>>> [fixed_words(house, (elder,), (0,), False), least_changes(house, (0,), True, 1)]
+[[('oust', 'yield')], [(((0, 0, 0, 0), 'oust'),)]]
+>>> [least_holding(house, 0), blamed(house, 0)[0], holds(house, 0, (elder,)), len(in_all(house, 0))]
+[[((0, 0, 0, 0), (0, 0, 0, 1))], ((0, 0, 0, 0), ('oust', 'yield')), False, 2]
+>>> least_keeping(((("a", False, 0),), ("s",), (((("wait", "oust"),),),)), (0,), False)
+[(0,)]
+'''
+
+SEARCH = '''
+>>> from comesthrough.search import can_all_end, ending_run, run_to, states_many, stuck_states
+>>> from comesthrough.told import held_persons, is_safe, least_company, safe_orders, told_story
+>>> house = ((("k", True, 0),), ("s",), (((("wait", "wait"),),),))
+>>> one, other = (0, ((0, 1), (0, 2))), (0, ((0, 2), (0, 1)))
+>>> [states_many(house, (one,)), run_to(house, (one,), (((0, 1, None),), (0,)))]
+[4, (((0, ((0, 1), (0, 2))),), (0, 0))]
+>>> stuck_states(house, (one, other))
+[(((0, 1, 1), (0, 1, 0)), (0, 1)), (((0, 1, 1), (0, 1, 0)), (1, 0))]
+>>> [held_persons(house, (one, other)), is_safe(house, (one, one)), ending_run(house, (one, other))[1]]
+[[0, 1], True, (0, 0, 0, 1, 1, 1)]
+>>> [safe_orders(house, (one, other), 1), least_company(house, (one, other, one), 2)]
+[[((0, 1), (0, 2))], [(1,)]]
+>>> told_story(house, (one, one), 0) is None
+True
+'''
+
+BEGINS = '''
+>>> from comesthrough.begins import busiest_run, is_possible, most_begins
+>>> from comesthrough.staying import charges, crew_round, led_staying, puts_out
+>>> house = ((("a", True, 0),), ("s",), (((("wait", "yield"),),),))
+>>> [most_begins(house, (0, 0, 0, 0)), puts_out(house, (0, 0), 1, 0), puts_out(house, (0, 0), 0, 1)]
+[[1, 2, 4, 8], True, False]
+>>> led_staying(house, busiest_run(house, (0, 0, 0)))
+[(1, True), (2, True), (4, True)]
+>>> [is_possible(house, (0, 0, 0), [1, 1, 3]), is_possible(house, (0, 0, 0), [1, 1, 4])]
+[True, False]
+>>> both = ((("a", True, 0),), ("s",), (((("yield", "yield"),),),))
+>>> len(crew_round(both, (0, 0, 0)))
+2
+>>> one, other = (0, ((0, 0), "work")), (0, ((0, 0), "work"))
+>>> run = ((one, other), (0, 0, 1, 1, 0, 1, 1, 1))
+>>> [led_staying(house, run), charges(house, run)]
+[[(1, True), (2, True)], [(1, 1, 0, 1)]]
+'''
+
+DESK = '''
+>>> from comesthrough.book import Book
+>>> from comesthrough.desk import Desk
+>>> from comesthrough.naming import gaining_kinds, levelling_words, through_kinds
+>>> house = ((("a", True, 0),), ("s",), (((("oust", "wait"),),),))
+>>> [through_kinds(house, True), gaining_kinds(house, 0, (0,), True), levelling_words(house, (0,), True)]
+[(0,), (), []]
+>>> book = Book(house)
+>>> [book.wish(("open", "a")), book.put_word((0, 0, 0, 1), "yield"), book.undo(), book.wishes_now()]
+[None, None, None, [('open', 'a')]]
+>>> desk = Desk("kind a keeps\\nsort s\\nask s a oust wait")
+>>> [desk.execute(line) for line in ["wish through a", "put s a a elder wait", "put s a a younger yield", "wishes", "held"]]
+[['done'], ['refused'], ['done'], ['through a'], []]
+>>> [desk.execute(line) for line in ["unwish 0", "put s a a elder yield", "held", "blame a"]]
+[['done'], ['done'], ['a'], ['s a a elder oust wait', 's a a younger oust wait']]
 '''
 
 
@@ -171,7 +248,19 @@ class TestExamples(unittest.TestCase):
         self.run_examples(OPEN, 13)
 
     def test_behind_52(self):
-        self.run_examples(ORDERS, 6)
+        self.run_examples(ORDERS, 11)
+
+    def test_behind_57(self):
+        self.run_examples(CHANGES, 10)
+
+    def test_behind_61(self):
+        self.run_examples(SEARCH, 9)
+
+    def test_behind_65(self):
+        self.run_examples(BEGINS, 11)
+
+    def test_behind_70(self):
+        self.run_examples(DESK, 10)
 
 
 if __name__ == "__main__":
