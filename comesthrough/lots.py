@@ -5,9 +5,10 @@ from itertools import combinations
 
 def least_lots(things, is_enough):
     """The ascending list of the lots of things, tuples in their order, that are enough, and have no part that is."""
+    rows = list(things)
     found = []
-    for many in range(len(things) + 1):
-        for lot in combinations(things, many):
+    for many in range(len(rows) + 1):
+        for lot in combinations(rows, many):
             if not has_part(found, lot) and is_enough(lot):
                 found.append(lot)
     return sorted(found)
