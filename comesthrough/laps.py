@@ -55,7 +55,7 @@ def _fair_part(space, part):
                 for claim in _claims_of(space, number, way) if way[2] in inside else []:
                     granted[claim] = True
         # Where somebody claims what is never granted, no fair round comes by.
-        kept = [number for number in numbers if all([claim in granted for claim in _claims_at(space, number)])]
+        kept = [number for number in numbers if all([one in granted for one in _claims_at(space, number)])]
         if len(kept) == len(numbers):
             return numbers
         left.extend(_strong_parts(space, kept))
@@ -107,7 +107,8 @@ def _reached(tails, number, done):
     found = {number: True}
     left = [number]
     while left:
-        for tail in tails[left.pop()]:
+        here = left.pop()
+        for tail in tails[here]:
             if tail not in done and tail not in found:
                 found[tail] = True
                 left.append(tail)

@@ -335,6 +335,18 @@ class TestWishes(unittest.TestCase):
         self.assertIsNone(book.drop_kind(0))
         self.assertIsNone(book.add_kind("a", 0))
 
+    def test_a_kind_called_meek(self):
+        # What a wish is about is told by its first word alone.
+        for name in ("meek", "open", "through"):
+            house = (((name, True, 0),),) + HOUSE[1:]
+            book = Book(house)
+            self.assertIsNone(book.wish(("open", name)))
+            self.assertIsNone(book.wish(("through", name)))
+            error = refusal(book.wish, ("meek",))
+            self.assertEqual((error.__class__, error.index, error.shown), (NotKept, 2, (0, 0, 0, 0)))
+            error = refusal(book.put_word, (0, 0, 0, 0), "wait")
+            self.assertEqual((error.index, error.shown), (0, open_story(with_word(house, (0, 0, 0, 0), "wait"), 0)))
+
     def test_the_least_index(self):
         book = Book(HOUSE)
         for wish in (("through", "a"), ("open", "a"), ("through", "a")):

@@ -386,6 +386,8 @@ class TestLeastCompany(unittest.TestCase):
         self.assertEqual(least_company(HOUSE, (ONE, OTHER) + works(1, 1), 0), [(1,)])
         self.assertEqual(refusal(least_company, HOUSE, works(16, 16, 16), 0).most, 20000)
         self.assertEqual(refusal(least_company, HOUSE, works(*[3] * 6), 0).most, 20000)
+        # The states of all of them count, though two are company enough.
+        self.assertEqual(refusal(least_company, HOUSE, (ONE, OTHER) + works(16, 16), 0).most, 20000)
 
 
 class TestTooMany(unittest.TestCase):
