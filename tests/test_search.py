@@ -20,9 +20,9 @@ def drawn_cases(seed, many, persons=(1, 3), most=400, **told):
     draw = random.Random(seed)
     found = []
     while len(found) < many:
-        house = drawn_house(draw, kinds=draw.randint(1, 3), sorts=draw.randint(1, 2), **told)
+        house = drawn_house(draw, kinds=draw.choice([1, 2, 3, 3, 4, 5]), sorts=draw.choice([1, 1, 2, 3]), **told)
         programs = tuple(drawn_program(draw, house, 2, 3) for _ in range(draw.randint(*persons)))
-        if states_many(house, programs) <= most:
+        if refusal(states_many, house, programs) is None and states_many(house, programs) <= most:
             found.append((house, programs))
     return found
 
