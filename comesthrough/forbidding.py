@@ -6,13 +6,13 @@ from comesthrough.webs import Web
 
 
 def held_by_orders(house, order):
-    web = Web(house, spots_of(house))
+    web = _web_of(house)
     lot = web.lot(order_edges(house, order))
     return [kind for kind in range(len(house[0])) if _are_held(web, lot, (kind,))]
 
 
 def least_forbidden(house, order, kinds):
-    web = Web(house, spots_of(house))
+    web = _web_of(house)
     # Each couple brings edges by itself, and some are there without any.
     always = web.lot(order_edges(house, ()))
     lots = {couple: web.lot(order_edges(house, (couple,))) for couple in order}
@@ -38,6 +38,12 @@ def greatest_orders(house, kinds):
 def needless_couples(house, order, kind):
     needed = [couple for lot in least_forbidden(house, order, (kind,)) for couple in lot]
     return [couple for couple in order if couple not in needed]
+
+
+def _web_of(house):
+    """The Web of the spots of a house; to those with the sort -1 no edge leads."""
+    spots = spots_of(house)
+    return Web(house, [spot for spot in spots if spot[2] != -1], [spot for spot in spots if spot[2] == -1])
 
 
 def _are_held(web, lot, kinds):

@@ -20,7 +20,7 @@ class Trial:
     def __init__(self, house):
         self._house = house
         kinds = range(len(house[0]))
-        self._web = Web(house, all_nodes(house) + [("raised", kind) for kind in kinds] + [COMER])
+        self._web = Web(house, all_nodes(house) + [("raised", kind) for kind in kinds] + [COMER], [])
         edges = [(("raised", kind), node, "elder") for kind in kinds for node in nodes_of(house, kind)]
         self._always = self._web.lot(edges + [(COMER, COMER, "younger")])
         self._lots = {}

@@ -7,19 +7,20 @@ class Web:
     """The nodes of a graph, or spots; a LOT of edges between them is an integer that has a bit for each.
 
     What joins two lots is a plain |, and a lot is asked without going from edge to edge: so hundreds of houses that
-    differ by a few words can be asked one behind the other.
+    differ by a few words can be asked one behind the other. Firsts are nodes, too, but such that no edge leads to
+    them: a lot needs no bits for that, and stays a good deal shorter.
     """
 
-    def __init__(self, house, nodes):
+    def __init__(self, house, nodes, firsts):
         self._many = len(nodes)
-        self._numbers = {node: number for number, node in enumerate(nodes)}
+        self._numbers = {node: number for number, node in enumerate(nodes + firsts)}
         self._moving = sum([1 << number for number, node in enumerate(nodes) if is_moving(house, node)])
 
     def lot(self, edges):
         """The lot that has just these edges."""
         lot = 0
         for node, other, word in edges:
-            row = self._numbers[node] + (self._many if word == "younger" else 0)
+            row = 2 * self._numbers[node] + (1 if word == "younger" else 0)
             lot |= 1 << (row * self._many + self._numbers[other])
         return lot
 
@@ -33,17 +34,18 @@ class Web:
 
     def _leads(self, lot, nodes, is_young_enough):
         # For each node the nodes to which edges lead from it, one bit for each.
-        rows = [(lot >> at) & ((1 << self._many) - 1) for at in range(0, 2 * self._many * self._many, self._many)]
-        elder, younger = rows[:self._many], rows[self._many:]
+        rows = [(lot >> (at * self._many)) & ((1 << self._many) - 1) for at in range(2 * len(self._numbers))]
+        elder, younger = rows[::2], rows[1::2]
         ahead = [one | other for one, other in zip(elder, younger)]
         for via in range(self._many):
             further = ahead[via]
             ahead = [row | further if (row >> via) & 1 else row for row in ahead]
         ends = 0
-        for knot in _knots_among(ahead):
+        for knot in _knots_among(ahead[:self._many]):
             if _has_edge(younger, knot) and (is_young_enough or _has_edge(elder, knot) or knot & self._moving):
                 ends |= knot
-        return any([((1 << self._numbers[node]) | ahead[self._numbers[node]]) & ends for node in nodes])
+        numbers = [self._numbers[node] for node in nodes]
+        return any([((1 << number) | ahead[number]) & ends for number in numbers])
 
 
 def _knots_among(ahead):
